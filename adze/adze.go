@@ -3,6 +3,7 @@ package adze
 
 import (
 	"adze/api"
+	"adze/edit"
 	"adze/program"
 )
 
@@ -25,5 +26,5 @@ func (s *Script) Edit(input string, quiet bool) (string, api.Errno) {
 	if s == nil || s.program == nil {
 		return "", api.ErrClosed
 	}
-	return "", api.OK
+	return edit.Run(s.program, input, quiet)
 }

@@ -122,6 +122,59 @@ func TestScriptsThatParseMadeAreNotClosed(t *testing.T) {
 	}
 }
 
+// checkEdit: what holds of Edit's answers whatever it is given.
+func checkEdit(t *testing.T, s *adze.Script, script, input string) {
+	t.Helper()
+	for _, quiet := range []bool{false, true} {
+		got := edit(s, input, quiet)
+		switch {
+		case (got.err == api.ErrLong) != (len(input) > api.MaxInput), len(input) <= api.MaxInput && (got.err == api.ErrRune) == utf8.ValidString(input):
+			t.Errorf("P4: %q of %q: %d", script, input, got.err)
+		case got.err == api.OK && (len(got.out) > api.MaxOutput || !utf8.ValidString(got.out) || got.out != "" && !strings.HasSuffix(got.out, "\n")):
+			t.Errorf("P4: %q of %q: %q", script, input, got.out)
+		case got.err != api.OK && got.out != "":
+			t.Errorf("P1: %q of %q: %q beside %d", script, input, got.out, got.err)
+		case got.err != api.OK && got.err != api.ErrLong && got.err != api.ErrRune && (got.err < api.ErrSpace || got.err > api.ErrOutput):
+			t.Errorf("P4: %q of %q: %d", script, input, got.err)
+		case edit(s, input, quiet) != got:
+			t.Errorf("P2: %q of %q is answered otherwise once more", script, input)
+		}
+	}
+}
+
+func TestEveryRowOfCommandsIsAnswered(t *testing.T) {
+	parts := []string{"=", "a x\n", "b", "c y\n", "d", "D", "g", "G", "h", "H", "i z\n", "n", "N", "p", "P", "q", "x", "t", "ba", "ta", ":a", "y/ab/ba/", "s/a*/\\n&/g", "s/(.)\\n?(.)/\\2\\1/p", "{", "}", "/a/!", "1,/b/", "$"}
+	var grow func(script string, left int)
+	grow = func(script string, left int) {
+		if s, err, _ := adze.Parse(script); err == api.OK {
+			for _, input := range []string{"", "ab\nb\n\na", "b\naa\nab\n"} {
+				checkEdit(t, s, script, input)
+			}
+		}
+		if left == 0 {
+			return
+		}
+		for _, part := range parts {
+			grow(script+part+";", left-1)
+			grow(script+part, left-1)
+		}
+	}
+	grow("", 2)
+	grow("s/^/x\\n/;", 2)
+	grow(":a;$!N;", 2)
+}
+
+func FuzzEdit(f *testing.F) {
+	for _, script := range []string{"", "1!G;h;$!d", ":a;$!{N;b a};s/\\n/ /g", "s/([^a-c]*)(.)$/\\2&/2gp;t", "y/a\\n/bc/;P;D", "/x/,9999!{n;c é\n}"} {
+		f.Add(script, "a\nx\n\nb")
+	}
+	f.Fuzz(func(t *testing.T, script, input string) {
+		if s, err, _ := adze.Parse(script); err == api.OK {
+			checkEdit(t, s, script, input)
+		}
+	})
+}
+
 type answer struct {
 	out string
 	err api.Errno
@@ -133,8 +186,8 @@ func edit(s *adze.Script, input string, quiet bool) answer {
 }
 
 func TestEditKeepsNothing(t *testing.T) {
-	inputs := []string{"", "a", "a\nb\nc\n", "b\nb", "c\n\na\n", "\xff", strings.Repeat("x\n", 1400), strings.Repeat("y", 401)}
-	for _, script := range []string{"", "p", "2,$p", "/a/,/c/d", "H;$!d;x", "x;G", "a more", "s/a/b/;t;s/b/c/", "/b/,9999{=;n}", ":a;b a"} {
+	inputs := []string{"", "a", "a\nb\nc\n", "b\nb", "c\n\na\n", "\xff", strings.Repeat("x\n", 1400), strings.Repeat("y", 401), "b\n" + strings.Repeat("a", 401)}
+	for _, script := range []string{"", "p", "=", "2,$p", "/a/,/c/d", "/b/,/x/s/^/>/", "1,3s/$/!/", "H;$!d;x", "x;G", "G;h", "a more", "a more\n/b/{n;q}", "q;a more", "/a/{h;q};G", "t;s/a/b/", "s/a/b/;t;s/b/c/", "/b/,9999{=;n}", ":a;b a", "y/ab/ba/;h;y/a/c/;G", "/b/,/c/{p;p;p;p}"} {
 		used, _, _ := adze.Parse(script)
 		for range 2 {
 			for _, input := range inputs {
