@@ -2,7 +2,6 @@ package adze_test
 
 import (
 	"strings"
-	"sync"
 	"testing"
 	"unicode/utf8"
 
@@ -183,36 +182,4 @@ type answer struct {
 func edit(s *adze.Script, input string, quiet bool) answer {
 	out, err := s.Edit(input, quiet)
 	return answer{out, err}
-}
-
-func TestEditKeepsNothing(t *testing.T) {
-	inputs := []string{"", "a", "a\nb\nc\n", "b\nb", "c\n\na\n", "\xff", strings.Repeat("x\n", 1400), strings.Repeat("y", 401), "b\n" + strings.Repeat("a", 401)}
-	for _, script := range []string{"", "p", "=", "2,$p", "/a/,/c/d", "/b/,/x/s/^/>/", "1,3s/$/!/", "H;$!d;x", "x;G", "G;h", "a more", "a more\n/b/{n;q}", "q;a more", "/a/{h;q};G", "t;s/a/b/", "s/a/b/;t;s/b/c/", "/b/,9999{=;n}", ":a;b a", "y/ab/ba/;h;y/a/c/;G", "/b/,/c/{p;p;p;p}"} {
-		used, _, _ := adze.Parse(script)
-		for range 2 {
-			for _, input := range inputs {
-				for _, quiet := range []bool{false, true} {
-					fresh, _, _ := adze.Parse(script)
-					if got, want := edit(used, input, quiet), edit(fresh, input, quiet); got != want {
-						t.Errorf("P2: Edit(%q, %v) by a used %q = %v, by a fresh one %v", input, quiet, script, got, want)
-					}
-				}
-			}
-		}
-	}
-}
-
-func TestEditsAtTheSameTime(t *testing.T) {
-	s, _, _ := adze.Parse("/a/,/c/{H;x};$!d")
-	want := edit(s, "a\nb\nc\na\n", false)
-	var group sync.WaitGroup
-	for i := range 16 {
-		group.Go(func() {
-			edit(s, strings.Repeat("a\n", i), true)
-			if got := edit(s, "a\nb\nc\na\n", false); got != want {
-				t.Errorf("P2: beside others %v, alone %v", got, want)
-			}
-		})
-	}
-	group.Wait()
 }

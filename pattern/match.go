@@ -20,37 +20,77 @@ type Match [api.MaxGroups + 1]Stretch
 
 // Has tells whether there is a match in a space.
 func (p *Pattern) Has(space []rune) bool {
-	return firstFrom(p.ends(space)[0], 0) != nowhere
+	return p.lookIn(space).firstFrom(0) != nowhere
 }
 
 // Matches goes through the matches in a space, each from the end of the one ahead on.
 func (p *Pattern) Matches(space []rune) iter.Seq[Match] {
 	return func(yield func(Match) bool) {
-		ends := p.ends(space)
-		ended := nowhere
-		for at := firstFrom(ends[0], 0); at != nowhere; {
-			m := p.matchAt(ends, at)
-			if m.empty() && at == ended {
-				at = firstFrom(ends[0], at+1)
-				continue
-			}
-			if !yield(m) {
-				return
-			}
-			ended = m[0].To
-			at = firstFrom(ends[0], ended)
-		}
+		p.lookIn(space).eachMatch(yield)
 	}
 }
 
-func (m *Match) empty() bool {
-	return m[0].From == m[0].To
+// search is the looking for a pattern in one space.
+type search struct {
+	items []Item
+	space []rune
+	ends  [][]int // for each item and each place: where the item ends if it begins there, and nowhere if no match goes on so
+	steps int     // how often an item or a place was looked at: counted so that P1's bound can be held against what is done
 }
 
-// firstFrom answers the least place, from one on, that has an end.
-func firstFrom(ends []int, from int) int {
-	for at := from; at < len(ends); at++ {
-		if ends[at] != nowhere {
+// lookIn works the ends out from the last item back, so that no pattern needs more than a step for each item and each place: what is behind an item is known ahead of it, and nothing is tried twice.
+func (p *Pattern) lookIn(space []rune) *search {
+	s := &search{items: p.Items, space: space, ends: make([][]int, len(p.Items)+1)}
+	for i := range s.ends {
+		s.ends[i] = make([]int, len(space)+1) // behind the last item a match may end at each place
+	}
+	for i := len(p.Items) - 1; i >= 0; i-- {
+		for at := len(space); at >= 0; at-- {
+			s.ends[i][at] = s.end(i, at)
+		}
+	}
+	return s
+}
+
+// end takes as many runes as the item may: the ends of all places further on are known.
+func (s *search) end(i, at int) int {
+	s.steps++
+	item, ends, behind := &s.items[i], s.ends[i], s.ends[i+1]
+	if at < len(s.space) && item.takes(s.space[at]) {
+		if item.takesMany() && ends[at+1] != nowhere {
+			return ends[at+1]
+		}
+		if behind[at+1] != nowhere {
+			return at + 1
+		}
+	}
+	if item.takesNone(at, len(s.space)) && behind[at] != nowhere {
+		return at
+	}
+	return nowhere
+}
+
+func (s *search) eachMatch(yield func(Match) bool) {
+	ended := nowhere
+	for at := s.firstFrom(0); at != nowhere; {
+		m := s.matchAt(at)
+		if m.empty() && at == ended {
+			at = s.firstFrom(at + 1)
+			continue
+		}
+		if !yield(m) {
+			return
+		}
+		ended = m[0].To
+		at = s.firstFrom(ended)
+	}
+}
+
+// firstFrom answers the least place, from one on, at which a match begins.
+func (s *search) firstFrom(from int) int {
+	for at := from; at <= len(s.space); at++ {
+		s.steps++
+		if s.ends[0][at] != nowhere {
 			return at
 		}
 	}
@@ -58,56 +98,25 @@ func firstFrom(ends []int, from int) int {
 }
 
 // matchAt follows the items' ends from a place at which there is a match.
-func (p *Pattern) matchAt(ends [][]int, first int) Match {
+func (s *search) matchAt(first int) Match {
 	m := Match{}
 	at := first
-	for i, item := range p.Items {
+	for i, item := range s.items {
+		s.steps++
 		switch item.Kind {
 		case Open:
 			m[item.Group].From = at
 		case Close:
 			m[item.Group].To = at
 		}
-		at = ends[i][at]
+		at = s.ends[i][at]
 	}
 	m[0] = Stretch{From: first, To: at}
 	return m
 }
 
-// ends answers for each item and each place where the item ends if it begins there, and nowhere if no match goes on so.
-// It is worked out from the last item back, so that no pattern needs more than a step for each item and each place: what is behind an item is known ahead of it, and nothing is tried twice.
-func (p *Pattern) ends(space []rune) [][]int {
-	all := make([][]int, len(p.Items)+1)
-	all[len(p.Items)] = make([]int, len(space)+1) // behind the last item a match may end at each place
-	for i := len(p.Items) - 1; i >= 0; i-- {
-		all[i] = p.Items[i].ends(space, all[i+1])
-	}
-	return all
-}
-
-// ends answers the same of one item, by what it is of the next one.
-func (i *Item) ends(space []rune, behind []int) []int {
-	ends := make([]int, len(behind))
-	for at := len(space); at >= 0; at-- {
-		ends[at] = i.end(space, at, ends, behind)
-	}
-	return ends
-}
-
-// end takes as many runes as it may: the ends of all places further on are known.
-func (i *Item) end(space []rune, at int, ends, behind []int) int {
-	if at < len(space) && i.takes(space[at]) {
-		if i.takesMany() && ends[at+1] != nowhere {
-			return ends[at+1]
-		}
-		if behind[at+1] != nowhere {
-			return at + 1
-		}
-	}
-	if i.takesNone(at, len(space)) && behind[at] != nowhere {
-		return at
-	}
-	return nowhere
+func (m *Match) empty() bool {
+	return m[0].From == m[0].To
 }
 
 func (i *Item) takes(r rune) bool {

@@ -215,19 +215,66 @@ func inTime(t *testing.T, what string, do func()) {
 	}
 }
 
-func TestFewSteps(t *testing.T) {
+// stubborn makes patterns of a number of items that have many ways to fail, or to match, in a space of `a` alone.
+func stubborn(items int) []string {
+	row := func(part string, n int) string { return strings.Repeat(part, max(n, 0)) }
+	return []string{
+		row("a*", items-1) + "b", row("a+", items-1) + "b", row("a?", items-1) + "b", row(".*", items-1) + "$", row(".*", items-2) + "b$", "^" + row("[^b]*", items-2) + "b",
+		row("(.*)", min(items/3, 9)) + row("a*", items-3*min(items/3, 9)-1) + "b", row("a*[ab]*", (items-1)/2) + "c", row("a?", items/2) + row("a", items-items/2), row("a+a?", (items-1)/2) + "$",
+		row("a*", items), row("a?", items), row(".", items), row("b*", items), row("a+", items-1) + "b?",
+	}
+}
+
+// TestStepsAreBounded counts: three steps for each item and each place are enough for all matches of a space, whatever is looked for; P1 allows some for each number of runes, too.
+func TestStepsAreBounded(t *testing.T) {
+	for _, items := range []int{1, 2, 3, 5, 8, 15, 29, 30} {
+		for _, text := range stubborn(items) {
+			p := mustRead(t, text)
+			for _, runes := range []int{0, 1, 2, 10, 50, 100, 200, 400} {
+				checkSteps(t, text, p, []rune(strings.Repeat("a", runes)))
+			}
+		}
+	}
+}
+
+func checkSteps(t *testing.T, text string, p Pattern, space []rune) {
+	t.Helper()
+	first, all := 0, 0
+	inTime(t, text, func() {
+		s := p.lookIn(space)
+		s.firstFrom(0)
+		first = s.steps
+		s = p.lookIn(space)
+		s.eachMatch(func(Match) bool { return true })
+		all = s.steps
+	})
+	most := 3 * (len(p.Items) + 1) * (len(space) + 1)
+	if first < len(p.Items) || all < first || all > most {
+		t.Fatalf("P1: %q in %d runes: %d steps to the first match, %d to all, want %d at most", text, len(space), first, all, most)
+	}
+}
+
+func TestStubbornPatterns(t *testing.T) {
 	space := []rune(strings.Repeat("a", 400))
-	for _, text := range []string{
-		strings.Repeat("a*", 29) + "b", strings.Repeat("a+", 29) + "b", strings.Repeat("a?", 29) + "b", strings.Repeat(".*", 29) + "$", strings.Repeat("(.*)", 9) + "aab",
-		"^" + strings.Repeat("[^b]*", 28) + "b", strings.Repeat("a*[ab]*", 14) + "c$", strings.Repeat("a?", 15) + strings.Repeat("a", 15), strings.Repeat("a+a?", 14) + "$",
+	for _, c := range []struct {
+		pattern string
+		matches int
+		first   Stretch
+	}{
+		{strings.Repeat("a*", 29) + "b", 0, Stretch{}}, {strings.Repeat("a?", 29) + "b", 0, Stretch{}}, {strings.Repeat(".*", 28) + "b$", 0, Stretch{}}, {"^" + strings.Repeat("[^b]+", 28) + "b", 0, Stretch{}},
+		{strings.Repeat("a*", 30), 1, Stretch{0, 400}}, {strings.Repeat("a?", 15) + strings.Repeat("a", 15), 13, Stretch{0, 30}}, {strings.Repeat("a+", 28) + "$", 1, Stretch{0, 400}}, {strings.Repeat("b*", 30), 401, Stretch{0, 0}}, {strings.Repeat("(.*)", 9) + "aa", 1, Stretch{0, 400}},
 	} {
-		p := mustRead(t, text)
-		inTime(t, text, func() {
-			for range 20 {
-				p.Has(space)
-				for range p.Matches(space) {
-				}
+		p := mustRead(t, c.pattern)
+		var all []Stretch
+		has := false
+		inTime(t, c.pattern, func() {
+			has = p.Has(space)
+			for m := range p.Matches(space) {
+				all = append(all, m[0])
 			}
 		})
+		if len(all) != c.matches || c.matches > 0 && all[0] != c.first || has != (c.matches > 0) {
+			t.Errorf("P4: %q: %d matches, the first %v, want %d, the first %v", c.pattern, len(all), all[:min(1, len(all))], c.matches, c.first)
+		}
 	}
 }
